@@ -1,0 +1,79 @@
+"""What can be told mechanically of the form of the code: a part of the rules of LANGUAGE.md."""
+
+import ast
+import pathlib
+import unittest
+
+PACKAGE = pathlib.Path(__file__).resolve().parent.parent / "oneround"
+FILES = [path for path in sorted(PACKAGE.rglob("*")) if "__pycache__" not in path.parts]
+
+BUILTINS = (
+    "len range enumerate zip min max sum abs sorted reversed int str bool bytes list tuple dict set isinstance "
+    "ord repr any all divmod map super ValueError LookupError KeyError NotImplemented"
+).split()
+
+
+def nodes(path, *kinds):
+    return [node for node in ast.walk(ast.parse(path.read_text())) if isinstance(node, kinds)]
+
+
+class FormTest(unittest.TestCase):
+    def each(self):
+        for path in FILES:
+            with self.subTest(path.name):
+                yield path
+
+    def test_the_folder_holds_files_of_code_alone(self):
+        self.assertIn("__init__.py", [path.name for path in FILES])
+        for path in self.each():
+            self.assertRegex(path.name, r"^[a-z0-9_]+\.py$")
+
+    def test_signs_and_sizes(self):
+        for path in self.each():
+            text = path.read_text(encoding="ascii")
+            self.assertTrue(all(sign == "\n" or " " <= sign <= "~" for sign in text))
+            lines = text.split("\n")
+            self.assertLess(len(lines), 400)
+            self.assertLessEqual(max(len(line) for line in lines), 120)
+
+    def test_functions_are_small_and_plain(self):
+        for path in self.each():
+            for function in nodes(path, ast.FunctionDef):
+                self.assertLessEqual(function.end_lineno - function.lineno + 1, 40, function.name)
+                self.assertEqual(function.decorator_list, [])
+
+    def test_imports(self):
+        for path in self.each():
+            self.assertEqual(nodes(path, ast.Import), [])
+            for row in nodes(path, ast.ImportFrom):
+                self.assertEqual(row.level, 0)
+                self.assertTrue(row.module.startswith("oneround.") or row.module in ("math", "heapq", "collections"))
+
+    def test_no_numbers_with_a_point(self):
+        for path in self.each():
+            self.assertEqual(nodes(path, ast.Div), [])
+            for constant in nodes(path, ast.Constant):
+                self.assertNotIsInstance(constant.value, (float, complex))
+                if isinstance(constant.value, str):
+                    self.assertNotIn("%", constant.value)
+
+    def test_module_level(self):
+        plain = (ast.Expr, ast.ImportFrom, ast.FunctionDef, ast.ClassDef, ast.Assign)
+        for path in self.each():
+            for row in ast.parse(path.read_text()).body:
+                self.assertIsInstance(row, plain)
+                if isinstance(row, ast.Expr):
+                    self.assertIsInstance(row.value.value, str)
+
+    def test_no_word_of_python_s_own_but_the_allowed_ones(self):
+        python = set(dir(__builtins__) if not isinstance(__builtins__, dict) else __builtins__)
+        for path in self.each():
+            told = {node.id for node in nodes(path, ast.Name)} & python
+            self.assertEqual(sorted(told - set(BUILTINS)), [])
+            bound = {node.id for node in nodes(path, ast.Name) if isinstance(node.ctx, ast.Store)}
+            bound |= {node.arg for node in nodes(path, ast.arg)}
+            self.assertEqual(sorted(bound & python), [])
+
+
+if __name__ == "__main__":
+    unittest.main()
