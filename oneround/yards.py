@@ -2,6 +2,7 @@
 
 from oneround.errors import BadEnd, BadYard, Barred, OutOfPlace, TooMany
 from oneround.kinds import is_below, is_number
+from oneround.reaches import reached
 
 MOST_CROSSINGS = 40
 
@@ -54,20 +55,16 @@ def is_line(thing, many_ends):
 
 def is_whole(lines):
     """Whether LINES that have each END once lead from each crossing to each other one."""
-    beside = [[] for _ in range(len(lines) // 2)]
+    return all(reached(crossings_beside(lines, len(lines) // 2), 0))
+
+
+def crossings_beside(lines, many):
+    """For each of so many crossings those to which LINES lead from it: a list of lists."""
+    beside = [[] for _ in range(many)]
     for low, high in lines:
         beside[low // PLACES].append(high // PLACES)
         beside[high // PLACES].append(low // PLACES)
-    reached = [False] * len(beside)
-    reached[0] = True
-    waiting = [0]
-    while waiting:
-        crossing = waiting.pop()
-        for other in beside[crossing]:
-            if not reached[other]:
-                reached[other] = True
-                waiting.append(other)
-    return all(reached)
+    return beside
 
 
 def yard_of(pairs):
@@ -132,6 +129,11 @@ def mate(end, way):
     """The END with which an END is joined by a WAY."""
     # Places that WAY 0, 1 or 2 joins differ in just the bits of 1, 2 or 3.
     return end ^ (way + 1)
+
+
+def way_joining(end, other):
+    """The WAY that joins two ENDS of a crossing."""
+    return (end ^ other) - 1
 
 
 def put_across(yard, line, other):

@@ -1,6 +1,9 @@
 """YARDS and other things for the tests, made and checked without the program."""
 
 import contextlib
+import inspect
+import itertools
+import random
 
 # The places that each WAY joins, as the document has them.
 JOINED = {0: ((0, 1), (2, 3)), 1: ((0, 2), (1, 3)), 2: ((0, 3), (1, 2))}
@@ -80,6 +83,105 @@ def sewn(yard, crossing, way):
         lines.append(tuple(end - 4 if end > own[3] else end for end in loose))
     lines = tuple(sorted(lines))
     return lines if whole(lines) else None
+
+
+def loose_yard(many, rng):
+    """A YARD of so many crossings, its ENDS paired as the dice fall."""
+    while True:
+        ends = list(range(4 * many))
+        rng.shuffle(ends)
+        lines = tuple(sorted(tuple(sorted(ends[at:at + 2])) for at in range(0, 4 * many, 2)))
+        if whole(lines):
+            return lines
+
+
+def grown_yard(many, rng):
+    """A YARD of so many crossings, each but one PUT ACROSS: with many LINES that lead back and TWINS."""
+    lines = [(0, 1), (2, 3)]
+    for new in range(4, 4 * many, 4):
+        one = lines.pop(rng.randrange(len(lines)))
+        if rng.randrange(3) == 0:
+            lines += [(one[0], new), (new + 1, new + 2), (one[1], new + 3)]
+        else:
+            other = lines.pop(rng.randrange(len(lines)))
+            lines += [(one[0], new), (one[1], new + 2), (other[0], new + 1), (other[1], new + 3)]
+    return tuple(sorted(lines))
+
+
+def some_yards(seed, counts):
+    """YARDS of so many crossings as the counts tell, a grown and a loose one of each."""
+    rng = random.Random(seed)
+    return [make(many, rng) for many in counts for make in (grown_yard, loose_yard)]
+
+
+def some_ways(many, rng, kinds):
+    """A tuple of so many of the kinds."""
+    return tuple(rng.choice(kinds) for _ in range(many))
+
+
+def all_ways(many, kinds=(0, 1, 2)):
+    """All tuples of so many of the kinds."""
+    return list(itertools.product(kinds, repeat=many))
+
+
+def fillings(draft):
+    """All SETTINGS that FILL a DRAFT, rising."""
+    return list(itertools.product(*[(0, 1, 2) if way is None else (way,) for way in draft]))
+
+
+def changed(ways, crossing, way):
+    """WAYS with this one at the crossing."""
+    return tuple(way if at == crossing else old for at, old in enumerate(ways))
+
+
+def joins(ways):
+    """All pairs of ENDS that are joined by WAYS, None of those that are OPEN."""
+    return [
+        (4 * crossing + one, 4 * crossing + other)
+        for crossing, way in enumerate(ways) if way is not None
+        for one, other in JOINED[way]
+    ]
+
+
+def tours(yard, ways):
+    """The ENDS, parted by LINES and by what is joined; each part rising, all rising."""
+    return sorted(sorted(part) for part in parts(range(2 * len(yard)), list(yard) + joins(ways)))
+
+
+def holds(yard, draft):
+    """The ENDS, parted by LINES, by what is joined and by OPEN crossings; each part rising, all rising."""
+    four = [(4 * at, 4 * at + place) for at, way in enumerate(draft) if way is None for place in (1, 2, 3)]
+    links = list(yard) + joins(draft) + four
+    return sorted(sorted(part) for part in parts(range(2 * len(yard)), links))
+
+
+def ways_place(thing, many, kinds=(0, 1, 2)):
+    """The place at which a thing is no tuple of so many of the kinds; None of one."""
+    if type(thing) is not tuple or len(thing) != many:
+        return ()
+    for at, way in enumerate(thing):
+        if not any(type(way) is type(kind) and way == kind for kind in kinds):
+            return (at,)
+    return None
+
+
+def check_order(test, call, good, bad):
+    """Where all arguments from some place on are bad that of the first is told.
+
+    bad has, for each argument, what is bad and the error that it brings.
+    """
+    for at, (_, error) in enumerate(bad):
+        arguments = list(good[:at]) + [thing for thing, _ in bad[at:]]
+        with refused(test, type(error), **vars(error)):
+            call(*arguments)
+
+
+def check_interface(test, module, rows):
+    """Each name is a function of that very file, with those arguments."""
+    for name, arguments in rows:
+        call = getattr(module, name)
+        test.assertEqual(str(inspect.signature(call)), f"({arguments})")
+        test.assertEqual(call.__module__, module.__name__)
 
 
 @contextlib.contextmanager

@@ -12,6 +12,11 @@ BUILTINS = (
     "ord repr any all divmod map super ValueError LookupError KeyError NotImplemented"
 ).split()
 
+BARRED_NAMES = (
+    "mro elements open input law version_info with_traceback add_note register attrgetter builtins gc importlib "
+    "methodcaller os sys"
+).split()
+
 
 def nodes(path, *kinds):
     return [node for node in ast.walk(ast.parse(path.read_text())) if isinstance(node, kinds)]
@@ -48,6 +53,37 @@ class FormTest(unittest.TestCase):
             for row in nodes(path, ast.ImportFrom):
                 self.assertEqual(row.level, 0)
                 self.assertTrue(row.module.startswith("oneround.") or row.module in ("math", "heapq", "collections"))
+
+    def test_no_two_files_import_from_each_other(self):
+        ahead = {}
+        for path in FILES:
+            ahead[f"oneround.{path.stem}"] = {row.module for row in nodes(path, ast.ImportFrom)}
+        while ahead:
+            free = [name for name, needs in ahead.items() if not needs & set(ahead)]
+            self.assertNotEqual(free, [], ahead)
+            for name in free:
+                del ahead[name]
+
+    def test_what_is_imported_is_defined_in_that_very_file_and_used(self):
+        for path in self.each():
+            used = {node.id for node in nodes(path, ast.Name)}
+            for row in nodes(path, ast.ImportFrom):
+                if row.module.startswith("oneround."):
+                    source = PACKAGE / (row.module.split(".")[1] + ".py")
+                    rows = ast.parse(source.read_text()).body
+                    defined = {node.name for node in rows if isinstance(node, (ast.FunctionDef, ast.ClassDef))}
+                    defined |= {node.targets[0].id for node in rows if isinstance(node, ast.Assign)}
+                    told = {alias.name for alias in row.names}
+                    self.assertEqual(told - defined, set())
+                    self.assertEqual(told - used, set())
+
+    def test_no_variable_has_the_name_of_a_class_an_import_or_of_what_is_barred(self):
+        for path in self.each():
+            taken = {alias.name for row in nodes(path, ast.ImportFrom) for alias in row.names} | set(BARRED_NAMES)
+            taken |= {node.name for node in nodes(path, ast.ClassDef)}
+            bound = {node.id for node in nodes(path, ast.Name) if isinstance(node.ctx, ast.Store)}
+            bound |= {node.arg for node in nodes(path, ast.arg)} | {node.name for node in nodes(path, ast.FunctionDef)}
+            self.assertEqual(sorted(bound & taken), [])
 
     def test_no_numbers_with_a_point(self):
         for path in self.each():
