@@ -123,20 +123,13 @@ class TwinsTest(unittest.TestCase):
         self.assertEqual(twins(ring), ((1, 2), (1, 4), (2, 4)))
 
     def test_against_all_pairs(self):
-        for yard in SMALL + LARGE[:6]:
+        for yard in SMALL + LARGE:
             told = twins(yard)
             self.assertEqual(told, pairs_that_part(yard))
             self.assertEqual({type(told)} | {type(pair) for pair in told}, {tuple})
 
     def test_forty_crossings(self):
         self.assertEqual(twins(chain(40)), tuple((line, line + 1) for line in range(1, 78, 2)))
-        for yard in LARGE[6:10]:
-            told = twins(yard)
-            rng = random.Random(74)
-            others = [tuple(sorted(rng.sample(range(len(yard)), 2))) for _ in range(200)]
-            for pair in list(told) + others:
-                self.assertEqual(pair in told, len(holds(yard, pair)) > 1)
-            self.assertEqual(list(told), sorted(told))
 
     def test_what_is_spliced_has_them(self):
         for yard, other, line, far_line in splicings():
