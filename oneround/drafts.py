@@ -17,6 +17,12 @@ def need_draft(yard, thing):
     return thing
 
 
+def draft_told(yard, draft):
+    """The DRAFT that is told; where none is (None), the one that is OPEN alone."""
+    many = crossings(yard)
+    return (None,) * many if draft is None else need_draft(yard, draft)
+
+
 def open_crossings(draft):
     """The OPEN crossings of a DRAFT, rising, in a list."""
     return [crossing for crossing, way in enumerate(draft) if way is None]
@@ -129,10 +135,7 @@ def filled(yard, draft):
 
 def ones(yard, *, draft=None):
     """How many SETTINGS of one ROUND FILL a DRAFT, of all OPEN where none is told."""
-    many = crossings(yard)
-    if draft is None:
-        draft = (None,) * many
-    need_draft(yard, draft)
+    draft = draft_told(yard, draft)
     left = open_crossings(draft)
     if len(left) > MOST_OPEN:
         raise TooMany(len(left))

@@ -29,8 +29,14 @@ def turn_fault(thing, many):
 def turned(yard, setting, turn):
     """The SETTING with the TURN done."""
     need_setting(yard, setting)
-    crossing, way = need_turn(yard, turn)
-    return with_way(setting, crossing, way)
+    return with_turns(setting, (need_turn(yard, turn),))
+
+
+def with_turns(setting, turns):
+    """The SETTING with the TURNS done, one behind another."""
+    for crossing, way in turns:
+        setting = with_way(setting, crossing, way)
+    return setting
 
 
 def change(yard, setting, turn):

@@ -1,6 +1,6 @@
 """SETTINGS of a YARD, and the ROUNDS that one goes by them."""
 
-from oneround.errors import BadEnd, BadSetting, OutOfPlace
+from oneround.errors import BadEnd, BadSetting, ManyRounds, OutOfPlace
 from oneround.kinds import is_below
 from oneround.yards import MANY_WAYS, PLACES, crossings, fars_of_lines, mate, way_joining
 
@@ -67,6 +67,14 @@ def end_after(fars, setting, end):
 def many_rounds(yard, setting):
     """How many ROUNDS a SETTING has."""
     return len(rounds_of(yard, setting))
+
+
+def need_one_round(yard, thing):
+    """The thing itself, a SETTING of one ROUND; BadSetting or ManyRounds of any other."""
+    many = many_rounds(yard, thing)
+    if many != 1:
+        raise ManyRounds(many)
+    return thing
 
 
 def round_at(yard, setting, end):

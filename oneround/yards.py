@@ -87,7 +87,7 @@ def are_loose_lines(thing):
     """Whether a thing is, by its form alone, as many pairs of unlike numbers as a YARD may have."""
     if not isinstance(thing, (list, tuple)) or not can_be_many_lines(len(thing)):
         return False
-    return all(is_loose_line(pair) for pair in thing)
+    return all([is_loose_line(pair) for pair in thing])
 
 
 def is_loose_line(thing):

@@ -1,16 +1,41 @@
 """YARDS and other things for the tests, made and checked without the program."""
 
 import contextlib
+import functools
 import inspect
 import itertools
 import random
+
+from oneround.errors import BadDraft, BadSetting, BadWorths, BadYard, ManyRounds, NeverOne
 
 # The places that each WAY joins, as the document has them.
 JOINED = {0: ((0, 1), (2, 3)), 1: ((0, 2), (1, 3)), 2: ((0, 3), (1, 2))}
 
 HUGE = 10 ** 3999
 
+MOST = 10 ** 30
+
 TWO = ((0, 4), (1, 5), (2, 6), (3, 7))
+
+# What is refused, of each kind of thing that is handed in for TWO, with the error that it brings.
+BAD_YARDS = [(thing, BadYard(place)) for thing, place in (
+    (None, ()), ([], ()), (list(TWO), ()), ("0a-0b 0c-0d", ()), (((0, 1), (0, 1)), (1,)), (((0, 1), (2, 2)), (1,)),
+    (((0, 1), (2, 3), (4, 5), (6, 7)), (4,)), (HUGE, ()),
+)]
+BAD_WORTHS = [(thing, BadWorths(place)) for thing, place in (
+    (None, ()), ([(0, 0, 0), (0, 0, 0)], ()), (((0, 0, 0),), ()), (((0, 0, 0), (0, 0)), (1,)), (HUGE, ()),
+    (((0, 0, True), None), (0, 2)), (((0, MOST + 1, -MOST - 1), None), (0, 1)), (((0, 0, 0), (-HUGE, 0, 0)), (1, 0)),
+)]
+BAD_DRAFTS = [(thing, error) for thing, error in (
+    (0, BadDraft(())), ([None, None], BadDraft(())), ((None,), BadDraft(())), ((None, 3), BadDraft((1,))),
+    ((True, None), BadDraft((0,))), ((0, [None]), BadDraft((1,))), ("--", BadDraft(())), (False, BadDraft(())),
+    ((2, 2), NeverOne((0, 3, 4, 7))), ((0, 0), NeverOne((0, 1, 4, 5))), ({}, BadDraft(())), (HUGE, BadDraft(())),
+)]
+BAD_SETTINGS = [(thing, BadSetting(place)) for thing, place in (
+    (None, ()), ((0,), ()), ([0, 1], ()), ((0, 3), (1,)), ((None, 0), (0,)), ((True, 3), (0,)), ((0, HUGE), (1,)),
+    ("bc", ()), (((0, 1), 1), (0,)), (0, ()), ({0: 1}, ()),
+)]
+MANY_ROUNDS = [((2, 2), ManyRounds(2)), ((0, 0), ManyRounds(2))]
 
 
 def nest_of_itself():
@@ -35,6 +60,13 @@ def chain(many):
     for crossing in range(many - 1):
         lines += [(4 * crossing + 2, 4 * crossing + 4), (4 * crossing + 3, 4 * crossing + 5)]
     return tuple(lines + [(4 * many - 2, 4 * many - 1)])
+
+
+def ring(many):
+    """The YARD in which each crossing's c and d have LINES to a and b of the next one, around."""
+    pairs = [(4 * at + 2, (4 * at + 4) % (4 * many)) for at in range(many)]
+    pairs += [(4 * at + 3, (4 * at + 5) % (4 * many)) for at in range(many)]
+    return tuple(sorted(tuple(sorted(pair)) for pair in pairs))
 
 
 def pairings(ends):
@@ -119,6 +151,33 @@ def some_ways(many, rng, kinds):
     return tuple(rng.choice(kinds) for _ in range(many))
 
 
+def some_worths(many, rng, kinds):
+    """WORTHS of so many crossings, of the kinds."""
+    return tuple(some_ways(3, rng, kinds) for _ in range(many))
+
+
+def some_names(many, rng):
+    """NAMES of so many crossings."""
+    called = []
+    for crossing in rng.sample(range(many), many):
+        called += [4 * crossing + place for place in rng.sample(range(4), 4)]
+    return tuple(called)
+
+
+def some_draft(yard, many_open, rng):
+    """A DRAFT that CAN be one round, with so many OPEN crossings, or all of them."""
+    draft = (None,) * (len(yard) // 2)
+    for crossing in rng.sample(range(len(draft)), max(0, len(draft) - many_open)):
+        three = [changed(draft, crossing, way) for way in rng.sample(range(3), 3)]
+        draft = [tried for tried in three if len(holds(yard, tried)) == 1][0]
+    return draft
+
+
+def some_setting(yard, rng):
+    """A SETTING of one ROUND."""
+    return some_draft(yard, 0, rng)
+
+
 def all_ways(many, kinds=(0, 1, 2)):
     """All tuples of so many of the kinds."""
     return list(itertools.product(kinds, repeat=many))
@@ -127,6 +186,33 @@ def all_ways(many, kinds=(0, 1, 2)):
 def fillings(draft):
     """All SETTINGS that FILL a DRAFT, rising."""
     return list(itertools.product(*[(0, 1, 2) if way is None else (way,) for way in draft]))
+
+
+@functools.lru_cache(None)
+def of_one_round(yard, draft):
+    """All SETTINGS of one ROUND that FILL a DRAFT, rising."""
+    return tuple(setting for setting in fillings(draft) if len(tours(yard, setting)) == 1)
+
+
+def open_ones(draft):
+    """The OPEN crossings, rising."""
+    return [crossing for crossing, way in enumerate(draft) if way is None]
+
+
+def worth_by(worths, setting):
+    """What a SETTING is worth."""
+    return sum(three[way] for three, way in zip(worths, setting))
+
+
+def most_worth(yard, worths, draft=None):
+    """What SETTINGS of one ROUND that FILL a DRAFT are worth at the most, all gone through."""
+    draft = (None,) * (len(yard) // 2) if draft is None else draft
+    return max(worth_by(worths, setting) for setting in of_one_round(yard, draft))
+
+
+def up(pairs, many):
+    """LINES whose crossings are called so many more."""
+    return [(low + 4 * many, high + 4 * many) for low, high in pairs]
 
 
 def changed(ways, crossing, way):

@@ -8,8 +8,8 @@ from oneround.drafts import (
 from oneround.errors import BadDraft, BadYard, NeverOne, TooMany
 from oneround.rounds import rounds_of
 from tests.samples import (
-    HUGE, TWO, all_ways, all_yards, anything, chain, changed, check_interface, check_order, fillings, holds, parts,
-    refused, some_ways, some_yards, tours, ways_place,
+    HUGE, TWO, all_ways, all_yards, anything, chain, changed, check_interface, check_order, holds, of_one_round,
+    open_ones, parts, refused, some_ways, some_yards, tours, ways_place,
 )
 
 ONE = ((0, 1), (2, 3))
@@ -58,10 +58,6 @@ def some_that_can(seed):
 CAN_LARGE = some_that_can(45)
 
 
-def open_ones(draft):
-    return [crossing for crossing, way in enumerate(draft) if way is None]
-
-
 def parts_by_open(yard, draft):
     """SEAMS and the ENDS of what is CLOSED: parts of joined ENDS that have two loose ones, or none."""
     told = tours(yard, draft)
@@ -72,11 +68,6 @@ def parts_by_open(yard, draft):
 def pieces_by_parts(yard, draft):
     links = [(low // 4, high // 4) for low, high in parts_by_open(yard, draft)[0]]
     return tuple(sorted(tuple(sorted(part)) for part in parts(open_ones(draft), links)))
-
-
-def of_one_round(yard, draft):
-    """All SETTINGS of one ROUND that FILL a DRAFT, rising."""
-    return [setting for setting in fillings(draft) if len(tours(yard, setting)) == 1]
 
 
 class NeedDraftTest(unittest.TestCase):
@@ -180,7 +171,7 @@ class PiecesTest(unittest.TestCase):
 class CanBeOneTest(unittest.TestCase):
     def test_where_some_setting_of_one_round_fills_it(self):
         for yard, draft in small_cases():
-            self.assertIs(can_be_one(yard, draft), of_one_round(yard, draft) != [])
+            self.assertIs(can_be_one(yard, draft), of_one_round(yard, draft) != ())
 
     def test_where_nothing_is_closed_and_there_is_one_piece_or_one_round_alone(self):
         for yard, draft in small_cases() + large_cases() + CAN_LARGE:

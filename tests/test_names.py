@@ -10,8 +10,8 @@ from oneround.rounds import rounds_of
 from oneround.splits import check_split, split_of
 from oneround.yards import is_yard
 from tests.samples import (
-    HUGE, JOINED, TWO, all_ways, all_yards, anything, chain, check_interface, check_order, joins, refused, some_ways,
-    some_yards,
+    HUGE, JOINED, TWO, all_ways, all_yards, anything, chain, check_interface, check_order, joins, refused,
+    some_names, some_ways, some_yards,
 )
 
 ONE = ((0, 1), (2, 3))
@@ -33,13 +33,6 @@ NO_NAMES = (
         ((4, 0, 5, 6, 7, 1, 2, 3), (1,)), ((7, 6, 5, 3, 4, 2, 1, 0), (3,)),
     ]
 )
-
-
-def some_names(many, rng):
-    called = []
-    for crossing in rng.sample(range(many), many):
-        called += [4 * crossing + place for place in rng.sample(range(4), 4)]
-    return tuple(called)
 
 
 def all_names(many):

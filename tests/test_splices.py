@@ -10,7 +10,7 @@ from oneround.splices import parted, spliced, twins
 from oneround.yards import is_yard
 from tests.samples import (
     HUGE, JOINED, TWO, all_ways, all_yards, anything, chain, check_interface, check_order, nest_of_itself, parts,
-    refused, some_ways, some_yards,
+    refused, some_ways, some_yards, up,
 )
 
 ONE = ((0, 1), (2, 3))
@@ -33,11 +33,6 @@ def holds(yard, gone):
 def pairs_that_part(yard):
     pairs = itertools.combinations(range(len(yard)), 2)
     return tuple(pair for pair in pairs if len(holds(yard, pair)) > 1)
-
-
-def up(pairs, many):
-    """LINES whose crossings are called so many more."""
-    return [(low + 4 * many, high + 4 * many) for low, high in pairs]
 
 
 def splicings():

@@ -6,12 +6,12 @@ from oneround import worths as worths_file
 from oneround.errors import BadSetting, BadWorths, BadYard, OutOfPlace
 from oneround.worths import MOST_WORTH, need_worths, rank, regret, row, worth_of
 from tests.samples import (
-    HUGE, TWO, all_ways, anything, chain, check_interface, check_order, nest_of_itself, refused, some_ways,
+    HUGE, MOST, TWO, all_ways, anything, chain, check_interface, check_order, nest_of_itself, refused,
+    some_worths,
 )
 
 ONE = ((0, 1), (2, 3))
 NO_YARD = (ONE[0], ONE[0])
-MOST = 10 ** 30
 GOOD = ((1, 2, 3), (-4, 0, 4))
 ZERO = (0, 0, 0)
 
@@ -32,10 +32,6 @@ NO_WORTHS = (
 )
 # -1 is a number, if no small one: these are WORTHS.
 NO_WORTHS = [(thing, place) for thing, place in NO_WORTHS if place != (0, 0) or thing[0] != (-1, 0, 0)]
-
-
-def some_worths(many, rng, kinds):
-    return tuple(some_ways(3, rng, kinds) for _ in range(many))
 
 
 def cases():
