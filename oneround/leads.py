@@ -39,6 +39,11 @@ def with_turns(setting, turns):
     return setting
 
 
+def other_turns(setting):
+    """All TURNS to WAYS that the SETTING hasn't, rising, in a list."""
+    return [(crossing, way) for crossing, old in enumerate(setting) for way in range(MANY_WAYS) if way != old]
+
+
 def change(yard, setting, turn):
     """How many ROUNDS more the TURN makes: 1, 0 or -1."""
     behind = turned(yard, setting, turn)

@@ -21,11 +21,19 @@ def worths_fault(thing, many):
     if not isinstance(thing, tuple) or len(thing) != many:
         return ()
     for crossing, three in enumerate(thing):
-        if not isinstance(three, tuple) or len(three) != MANY_WAYS:
-            return (crossing,)
-        for way, worth in enumerate(three):
-            if not is_number(worth) or not -MOST_WORTH <= worth <= MOST_WORTH:
-                return (crossing, way)
+        place = three_fault(three)
+        if place is not None:
+            return (crossing,) + place
+    return None
+
+
+def three_fault(thing):
+    """The place at which a thing is no three worths, as a crossing has them; None of three."""
+    if not isinstance(thing, tuple) or len(thing) != MANY_WAYS:
+        return ()
+    for way, worth in enumerate(thing):
+        if not is_number(worth) or not -MOST_WORTH <= worth <= MOST_WORTH:
+            return (way,)
     return None
 
 
@@ -33,7 +41,17 @@ def worth_of(yard, worths, setting):
     """What a SETTING is worth: the worths of its WAYS, together."""
     need_worths(yard, worths)
     need_setting(yard, setting)
+    return summed_worth(worths, setting)
+
+
+def summed_worth(worths, setting):
+    """What the WAYS of a SETTING are worth together, of good ones."""
     return sum([worths[crossing][way] for crossing, way in enumerate(setting)])
+
+
+def gain(worths, setting, turns):
+    """By how much more a SETTING is worth with TURNS at unlike crossings done."""
+    return sum([worths[crossing][way] - worths[crossing][setting[crossing]] for crossing, way in turns])
 
 
 def rank(yard, worths, crossing):

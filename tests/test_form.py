@@ -93,6 +93,24 @@ class FormTest(unittest.TestCase):
                 if isinstance(constant.value, str):
                     self.assertNotIn("%", constant.value)
 
+    def test_what_a_class_that_compares_asks_of_the_others(self):
+        # a class has __eq__ and __len__: so nothing is gone through by a generator, and no error of such is caught
+        for path in self.each():
+            self.assertEqual(nodes(path, ast.GeneratorExp, ast.Try, ast.Set, ast.SetComp, ast.Yield), [])
+            methods = [node.attr for node in nodes(path, ast.Attribute)]
+            self.assertNotIn("sort", methods)
+
+    def test_methods(self):
+        plain = ("__init__", "__eq__", "__len__", "__str__", "__repr__")
+        for path in self.each():
+            for class_ in nodes(path, ast.ClassDef):
+                told = [row.name for row in class_.body if isinstance(row, ast.FunctionDef)]
+                self.assertEqual(len(told), len(set(told)))
+                self.assertEqual([name for name in told if name.startswith("__") and name not in plain], [])
+                attributes = {node.attr for node in ast.walk(class_) if isinstance(node, ast.Attribute)
+                              and isinstance(node.ctx, ast.Store)}
+                self.assertEqual(sorted(attributes & set(told)), [])
+
     def test_module_level(self):
         plain = (ast.Expr, ast.ImportFrom, ast.FunctionDef, ast.ClassDef, ast.Assign)
         for path in self.each():
