@@ -164,6 +164,17 @@ def some_names(many, rng):
     return tuple(called)
 
 
+def worths_renamed(names, worths):
+    """WORTHS by which what is joined, so called, is worth what it was."""
+    told = [[None] * 3 for _ in worths]
+    for crossing, three in enumerate(worths):
+        for way, worth in enumerate(three):
+            pairs = [{names[4 * crossing + one] % 4, names[4 * crossing + other] % 4} for one, other in JOINED[way]]
+            new = [new for new in range(3) if set(JOINED[new][0]) in pairs][0]
+            told[names[4 * crossing] // 4][new] = worth
+    return tuple(tuple(three) for three in told)
+
+
 def some_draft(yard, many_open, rng):
     """A DRAFT that CAN be one round, with so many OPEN crossings, or all of them."""
     draft = (None,) * (len(yard) // 2)

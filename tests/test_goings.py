@@ -12,6 +12,7 @@ from tests.samples import (
     BAD_DRAFTS, BAD_WORTHS, BAD_YARDS, HUGE, MOST, TWO, all_ways, all_yards, anything, chain, changed,
     check_interface, check_order, grown_yard, holds, loose_yard, most_worth, of_one_round, open_ones, refused, ring,
     some_draft, some_names, some_worths, some_yards, tours, worth_by,
+    worths_renamed,
 )
 
 ONE = ((0, 1), (2, 3))
@@ -214,24 +215,13 @@ class GreatestTest(unittest.TestCase):
                     self.assertEqual(price(whole, one + two, crossing, way), price(part, part_worths, at, way))
 
 
-def worths_renamed(yard, names, worths):
-    """WORTHS whose ways are called as the ENDS that they join are called now."""
-    told = [[None] * 3 for _ in worths]
-    for way in range(3):
-        at = draft_renamed(yard, names, (way,) * len(worths))
-        for crossing, three in enumerate(worths):
-            new = names[4 * crossing] // 4
-            told[new][at[new]] = three[way]
-    return tuple(tuple(three) for three in told)
-
-
 class RenamedTest(unittest.TestCase):
     def cases(self):
         rng = random.Random(100)
         for yard, worths, draft in SMALL[::9] + LARGE[::7]:
             names = some_names(len(yard) // 2, rng)
             old = told_draft(yard, draft)
-            yield yard, worths, old, names, renamed(yard, names), worths_renamed(yard, names, worths)
+            yield yard, worths, old, names, renamed(yard, names), worths_renamed(names, worths)
 
     def test_greatest_worth_goes_over(self):
         for yard, worths, draft, names, new_yard, new_worths in self.cases():
@@ -255,7 +245,7 @@ class RenamedTest(unittest.TestCase):
             many = len(yard) // 2
             worths = tuple(tuple(rng.sample(range(10 ** 9), 3)) for _ in range(many))
             names = some_names(many, rng)
-            new_yard, new_worths = renamed(yard, names), worths_renamed(yard, names, worths)
+            new_yard, new_worths = renamed(yard, names), worths_renamed(names, worths)
             want = []
             for crossing, way, split in going(yard, worths):
                 new = names[4 * crossing] // 4

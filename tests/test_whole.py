@@ -21,7 +21,7 @@ from oneround.yards import far_ends, put_across, sewn_out
 from oneround.yardtexts import read_yard, yard_text
 from tests.samples import (
     MOST, all_ways, all_yards, chain, changed, grown_yard, loose_yard, most_worth, open_ones, ring, some_draft,
-    some_names, some_setting, some_ways, some_worths, some_yards, tours,
+    some_names, some_setting, some_ways, some_worths, some_yards, tours, worths_renamed,
 )
 
 KINDS = ((0,), (-2, -1, 0, 1, 2), (-MOST, 1 - MOST, 0, MOST - 1, MOST), range(-99, 99))
@@ -125,20 +125,11 @@ class GreatestWorthTest(unittest.TestCase):
 
 
 class RenamedTest(unittest.TestCase):
-    def worths_so(self, yard, names, worths):
-        told = [[None] * 3 for _ in worths]
-        for way in range(3):
-            new_ways = draft_renamed(yard, names, (way,) * len(worths))
-            for crossing, three in enumerate(worths):
-                new = names[4 * crossing] // 4
-                told[new][new_ways[new]] = three[way]
-        return tuple(tuple(three) for three in told)
-
     def test_all_goes_over(self):
         rng = random.Random(197)
         for yard, worths in CASES:
             names = some_names(len(worths), rng)
-            new_yard, new_worths = renamed(yard, names), self.worths_so(yard, names, worths)
+            new_yard, new_worths = renamed(yard, names), worths_renamed(names, worths)
             self.assertEqual(greatest_worth(new_yard, new_worths), greatest_worth(yard, worths))
             setting = some_setting(yard, rng)
             new = setting_renamed(yard, names, setting)
